@@ -1,0 +1,1 @@
+"""Brineways: brine led from basin to basin."""
