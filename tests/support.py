@@ -100,3 +100,107 @@ def check_brine(case, thing):
         case.assertEqual(len(part), 2)
         check_fraction(case, part[0])
         check_fraction(case, part[1])
+
+
+def dried_otherwise(full, brine, water):
+    """A brine dried step by step, by the very words of 3.1: (brine, gone)."""
+    full, left, gone = worth(full), worth(water), Fraction(0)
+    fallen = sum((worth(salt) for held, salt in brine if held == NOUGHT), Fraction(0))
+    layers = [(worth(held), worth(salt)) for held, salt in brine if held != NOUGHT]
+    while left > 0 and layers:
+        held, salt = layers.pop()
+        ahead = layers[-1][1] / layers[-1][0] if layers else full
+        if salt == full * held:
+            step = min(left, held)
+            fallen, salt = fallen + full * step, salt - full * step
+        else:
+            step = min(left, held if salt == 0 else held - salt / ahead)
+        held, left, gone = held - step, left - step, gone + step
+        if held > 0 and layers and salt == ahead * held:
+            held, salt = held + layers[-1][0], salt + layers.pop()[1]
+        if held > 0:
+            layers.append((held, salt))
+    row = [(Fraction(0), fallen)] * (fallen > 0) + layers
+    return tuple(layer(held, salt) for held, salt in row), pair(gone)
+
+
+def rained_otherwise(brine, water):
+    return laid_otherwise(brine + (((water, NOUGHT),) if worth(water) > 0 else ()))
+
+
+def some_area(rng):
+    return pair(Fraction(rng.randint(1, 12), rng.randint(1, 5)))
+
+
+def some_spell(rng):
+    return (pair(Fraction(rng.randint(1, 12), rng.randint(1, 4))), pair(Fraction(rng.randint(-8, 8), rng.randint(1, 4))))
+
+
+def some_weather(rng, most=6):
+    return tuple(some_spell(rng) for _ in range(rng.randint(1, most)))
+
+
+def ends_of(weather):
+    """The moment 0 and each spell's end, as worths."""
+    ends = [Fraction(0)]
+    for days, _ in weather:
+        ends.append(ends[-1] + worth(days))
+    return ends
+
+
+def some_moment(rng, weather):
+    """A moment of the weather, often 0, a spell's end or the last."""
+    ends = ends_of(weather)
+    if rng.randrange(3) == 0:
+        return pair(rng.choice(ends))
+    return pair(ends[-1] * Fraction(rng.randint(0, 24), 24))
+
+
+def after_otherwise(full, area, brine, weather, moment, pieces=1):
+    """Through a weather spell by spell, each in so many pieces: (brine, rained, gone)."""
+    rain, gone, begin = Fraction(0), Fraction(0), Fraction(0)
+    for days, net in weather:
+        part = min(worth(days), worth(moment) - begin)
+        begin += worth(days)
+        for _ in range(pieces if part > 0 else 0):
+            amount = worth(area) * worth(net) * part / pieces
+            if amount > 0:
+                brine, rain = rained_otherwise(brine, pair(amount)), rain + amount
+            else:
+                brine, went = dried_otherwise(full, brine, pair(-amount))
+                gone += worth(went)
+    return brine, pair(rain), pair(gone)
+
+
+def water_otherwise(brine):
+    return pair(sum((worth(held) for held, _ in brine), Fraction(0)))
+
+
+def salt_otherwise(brine):
+    return pair(sum((worth(salt) for _, salt in brine), Fraction(0)))
+
+
+def fits_spans(spans, moment):
+    """Whether a moment is within one of the spans."""
+    return any(worth(begin) <= worth(moment) <= worth(end) for begin, end in spans)
+
+
+def check_spans(case, spans, weather, is_so, more=()):
+    """That spans stand as 5.3 says, and that just within them it is so."""
+    ends = ends_of(weather)
+    case.assertIs(type(spans), tuple)
+    last = None
+    for span in spans:
+        case.assertIs(type(span), tuple)
+        begin, end = span
+        check_fraction(case, begin)
+        check_fraction(case, end)
+        case.assertTrue(0 <= worth(begin) <= worth(end) <= ends[-1], spans)
+        case.assertTrue(last is None or worth(begin) > last, spans)
+        last = worth(end)
+    marks = sorted(set(ends) | {worth(one) for span in spans for one in span} | set(more))
+    asked = marks + [(one + other) / 2 for one, other in zip(marks, marks[1:])]
+    near = Fraction(1, 10 ** 9)
+    asked += [one + by for one in marks for by in (-near, near) if 0 <= one + by <= ends[-1]]
+    for moment in asked:
+        case.assertIs(is_so(pair(moment)), fits_spans(spans, pair(moment)), (moment, spans))

@@ -14,6 +14,10 @@ INTERFACE = {
     "fractions": "is_fraction fraction plus less times over is_less least greatest summed floor",
     "brines": "is_layer is_brine laid joined share_of water_of salt_of fallen_of weakest strongest strengths need"
               " alike_by_needs",
+    "sun": "dried rained dried_right",
+    "draws": "drawn skimmed may_take bound_by least_bound stirred",
+    "spells": "is_weather days_of fallen_by after strong_spans shallow_spans first_strong",
+    "needs": "need_at since came best_begins peak least_shown most_shown",
 }
 BUILTINS = set(
     "len range enumerate zip min max sum abs sorted reversed int str bool bytes list tuple dict set frozenset"

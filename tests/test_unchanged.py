@@ -3,14 +3,17 @@
 import unittest
 from copy import deepcopy
 
-from brineways import brines, fractions
-from brineways.errors import BrineError, NoBrine, NoFraction, NoStrength
+from brineways import brines, draws, fractions, needs, spells, sun
+from brineways.errors import BrineError, NoBrine, NoFraction, NoMoment, NoStrength, NoWater
 from support import layer
 
 FULL = (1, 3)
 ONE_BRINE = (layer(0, 2), layer(3, 1), layer(5, 1), layer(7, 0))
 OTHER = (layer(4, 1), layer(5, 1))
 ROW = ((1, 2), (-2, 3), (5, 7))
+AREA = (2, 1)
+WEATHER = (((2, 1), (-1, 1)), ((1, 1), (3, 2)), ((1, 2), (-4, 1)))
+ASK = (FULL, AREA, ONE_BRINE, WEATHER, (1, 4))
 
 CALLS = (
     (fractions.is_fraction, ((1, 2),)), (fractions.is_fraction, ([1, [2]],)), (fractions.fraction, (6, -4)),
@@ -24,11 +27,36 @@ CALLS = (
     (brines.fallen_of, (ONE_BRINE,)), (brines.weakest, (ONE_BRINE,)), (brines.strongest, (ONE_BRINE,)),
     (brines.strengths, (ONE_BRINE,)), (brines.need, (FULL, ONE_BRINE, (1, 4))),
     (brines.alike_by_needs, (FULL, ONE_BRINE, OTHER)), (brines.alike_by_needs, (FULL, OTHER, OTHER)),
+    (sun.dried, (FULL, ONE_BRINE, (9, 1))), (sun.rained, (ONE_BRINE, (9, 1))),
+    (sun.dried_right, (FULL, ONE_BRINE, (9, 1), [list(ONE_BRINE), [9, 1]])),
+    (sun.dried_right, (FULL, ONE_BRINE, (0, 1), (ONE_BRINE, (0, 1)))),
+    (draws.drawn, (ONE_BRINE, (4, 1))), (draws.skimmed, (ONE_BRINE, (8, 1))),
+    (draws.may_take, (ONE_BRINE, (4, 1), (1, 1))), (draws.bound_by, (ONE_BRINE, (4, 1), (1, 4))),
+    (draws.least_bound, (FULL, ONE_BRINE, (4, 1))), (draws.stirred, (ONE_BRINE,)),
+    (spells.is_weather, (WEATHER,)), (spells.is_weather, ([list(one) for one in WEATHER],)),
+    (spells.days_of, (WEATHER,)), (spells.fallen_by, (AREA, WEATHER, (5, 2))),
+    (spells.after, (FULL, AREA, ONE_BRINE, WEATHER, (5, 2))), (spells.strong_spans, ASK),
+    (spells.shallow_spans, (AREA, ONE_BRINE, WEATHER, (12, 1))), (spells.first_strong, ASK + ((1, 2),)),
+    (needs.need_at, ASK + ((1, 2),)), (needs.since, ASK + ((3, 1),)), (needs.came, ASK + ((1, 2), (3, 1))),
+    (needs.best_begins, ASK + ((3, 1),)), (needs.peak, ASK + ((1, 2), (3, 1))),
+    (needs.least_shown, ASK + ((3, 1), ((2, 1), (1, 1)))), (needs.most_shown, ASK + (((9, 1),) * 4,)),
 )
 REFUSED = (
     (NoFraction, fractions.fraction, (1, 0)), (NoFraction, fractions.over, ((1, 2), (0, 1))),
     (NoBrine, brines.laid, (FULL, (layer(5, 1), [[4, 1], [1, 1]]))),
     (NoFraction, brines.share_of, (ONE_BRINE, (3, 2))), (NoStrength, brines.need, (FULL, ONE_BRINE, (1, 2))),
+    (NoWater, sun.dried, (FULL, ONE_BRINE, (-1, 2))), (NoWater, sun.rained, (ONE_BRINE, (-1, 2))),
+    (NoWater, sun.dried_right, (FULL, ONE_BRINE, (-1, 2), [ONE_BRINE, [1]])),
+    (NoWater, draws.drawn, (ONE_BRINE, (16, 1))), (NoWater, draws.skimmed, (ONE_BRINE, (16, 1))),
+    (NoWater, draws.bound_by, (ONE_BRINE, (16, 1), (-1, 1))), (NoStrength, draws.bound_by, (ONE_BRINE, (4, 1), (-1, 1))),
+    (NoWater, draws.least_bound, (FULL, ONE_BRINE, (16, 1))), (NoMoment, spells.fallen_by, (AREA, WEATHER, (4, 1))),
+    (NoMoment, spells.after, (FULL, AREA, ONE_BRINE, WEATHER, (4, 1))), (NoStrength, spells.strong_spans, ASK[:4] + ((1, 2),)),
+    (NoWater, spells.shallow_spans, (AREA, ONE_BRINE, WEATHER, (-1, 1))),
+    (NoStrength, spells.first_strong, ASK[:4] + ((1, 2), (4, 1))), (NoMoment, spells.first_strong, ASK + ((4, 1),)),
+    (NoStrength, needs.need_at, ASK[:4] + ((1, 2), (4, 1))), (NoMoment, needs.since, ASK + ((4, 1),)),
+    (NoMoment, needs.came, ASK + ((2, 1), (1, 1))), (NoMoment, needs.peak, ASK + ((2, 1), (1, 1))),
+    (NoMoment, needs.best_begins, ASK + ((4, 1),)), (NoMoment, needs.least_shown, ASK + ((4, 1), ((0, 1), (0, 1)))),
+    (NoStrength, needs.most_shown, ASK[:4] + ((1, 2), ((9, 1),) * 4)),
 )
 
 
