@@ -73,25 +73,28 @@ def fallen_by(area, weather, moment):
     return brought(area, spells_between(weather, NOUGHT, moment))
 
 
-def through(full, area, brine, spells):
-    """A brine behind spells, and how much water rained and went."""
+def through(full, area, brine, spells, rim):
+    """A brine behind spells, and how much water rained, went, and went over a rim (None: over none)."""
     rain = NOUGHT
     lost = NOUGHT
+    spilt = NOUGHT
     for spell in spells:
         amount = brought(area, (spell,))
         if is_less(amount, NOUGHT):
             brine, went = dried(full, brine, less(NOUGHT, amount))
             lost = plus(lost, went)
         else:
-            brine = rained(brine, amount)
+            kept = amount if rim is None else least((amount, less(rim, water_of(brine))))
+            brine = rained(brine, kept)
             rain = plus(rain, amount)
-    return (brine, rain, lost)
+            spilt = plus(spilt, less(amount, kept))
+    return (brine, rain, lost, spilt)
 
 
 def after(full, area, brine, weather, moment):
     """The brine at a moment, and how much water rained and went till then."""
     check_moment(weather, moment)
-    return through(full, area, brine, spells_between(weather, NOUGHT, moment))
+    return through(full, area, brine, spells_between(weather, NOUGHT, moment), None)[:3]
 
 
 def worths_at_turns(first, area, spells):

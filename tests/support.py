@@ -204,3 +204,39 @@ def check_spans(case, spans, weather, is_so, more=()):
     asked += [one + by for one in marks for by in (-near, near) if 0 <= one + by <= ends[-1]]
     for moment in asked:
         case.assertIs(is_so(pair(moment)), fits_spans(spans, pair(moment)), (moment, spans))
+
+
+def some_year(rng, full, most_spells=5, most_inflows=4):
+    """A year whose inflows often share a moment or a spell's end."""
+    weather = some_weather(rng, most_spells)
+    inflows = []
+    for _ in range(rng.randint(0, most_inflows)):
+        water, salt = some_layer(rng, full)
+        if water != NOUGHT:
+            inflows.append((worth(some_moment(rng, weather)), water, salt))
+    inflows.sort(key=lambda one: one[0])
+    return (weather, tuple((pair(moment), water, salt) for moment, water, salt in inflows))
+
+
+def between_otherwise(full, area, brine, weather, one, other):
+    """From one moment to another, spell by spell; moments are worths."""
+    for begin, (days, net) in zip(ends_of(weather), weather):
+        part = min(begin + worth(days), other) - max(begin, one)
+        if part > 0:
+            brine = after_otherwise(full, area, brine, ((pair(part), net),), pair(part))[0]
+    return brine
+
+
+def part_otherwise(full, area, brine, year, moment, whole=False):
+    """Through a year to a moment, inflow by inflow: those ahead of it, or all of the whole year's."""
+    weather, inflows = year
+    now = Fraction(0)
+    for at, water, salt in inflows:
+        if whole or worth(at) < worth(moment):
+            brine = between_otherwise(full, area, brine, weather, now, worth(at))
+            brine, now = laid_otherwise(brine + ((water, salt),)), worth(at)
+    return between_otherwise(full, area, brine, weather, now, worth(moment))
+
+
+def year_otherwise(full, area, brine, year):
+    return part_otherwise(full, area, brine, year, pair(ends_of(year[0])[-1]), True)

@@ -18,6 +18,9 @@ INTERFACE = {
     "draws": "drawn skimmed may_take bound_by least_bound stirred",
     "spells": "is_weather days_of fallen_by after strong_spans shallow_spans first_strong",
     "needs": "need_at since came best_begins peak least_shown most_shown",
+    "years": "is_year part_after year_after brings gone is_settled settles turned",
+    "clamps": "clamped one_behind many_times first_time",
+    "brims": "is_pan rim_of clamp_of brimmed brim_spans",
 }
 BUILTINS = set(
     "len range enumerate zip min max sum abs sorted reversed int str bool bytes list tuple dict set frozenset"

@@ -3,8 +3,10 @@
 import unittest
 from copy import deepcopy
 
-from brineways import brines, draws, fractions, needs, spells, sun
-from brineways.errors import BrineError, NoBrine, NoFraction, NoMoment, NoStrength, NoWater
+from brineways import brims, brines, clamps, draws, fractions, needs, spells, sun, years
+from brineways.errors import (
+    BrineError, NoBrine, NoFraction, NoMoment, NoRoom, NoStrength, NoWater, NoYear,
+)
 from support import layer
 
 FULL = (1, 3)
@@ -14,6 +16,10 @@ ROW = ((1, 2), (-2, 3), (5, 7))
 AREA = (2, 1)
 WEATHER = (((2, 1), (-1, 1)), ((1, 1), (3, 2)), ((1, 2), (-4, 1)))
 ASK = (FULL, AREA, ONE_BRINE, WEATHER, (1, 4))
+YEAR = (WEATHER, (((1, 1), (4, 1), (1, 1)), ((7, 2), (2, 1), (0, 1))))
+OF_YEAR = (FULL, AREA, ONE_BRINE, YEAR)
+CLAMP = ((3, 2), (0, 1), (10, 1))
+PAN = ((2, 1), (8, 1))
 
 CALLS = (
     (fractions.is_fraction, ((1, 2),)), (fractions.is_fraction, ([1, [2]],)), (fractions.fraction, (6, -4)),
@@ -40,6 +46,13 @@ CALLS = (
     (needs.need_at, ASK + ((1, 2),)), (needs.since, ASK + ((3, 1),)), (needs.came, ASK + ((1, 2), (3, 1))),
     (needs.best_begins, ASK + ((3, 1),)), (needs.peak, ASK + ((1, 2), (3, 1))),
     (needs.least_shown, ASK + ((3, 1), ((2, 1), (1, 1)))), (needs.most_shown, ASK + (((9, 1),) * 4,)),
+    (years.is_year, (FULL, YEAR)), (years.is_year, (FULL, [list(WEATHER), []])), (years.part_after, OF_YEAR + ((5, 2),)),
+    (years.year_after, OF_YEAR), (years.brings, (FULL, AREA, YEAR, (1, 4))), (years.gone, OF_YEAR + (9,)),
+    (years.is_settled, OF_YEAR), (years.settles, OF_YEAR), (years.turned, (YEAR, (3, 2))),
+    (clamps.clamped, (CLAMP, (9, 1))), (clamps.one_behind, (CLAMP, CLAMP)), (clamps.many_times, (CLAMP, 5)),
+    (clamps.first_time, (CLAMP, (1, 1), (9, 1))), (brims.is_pan, (PAN,)), (brims.is_pan, ([[1, 1], [1, 1]],)),
+    (brims.rim_of, (PAN,)), (brims.clamp_of, (PAN, WEATHER)), (brims.brimmed, (FULL, PAN, ONE_BRINE, WEATHER, (3, 1))),
+    (brims.brim_spans, (PAN, ONE_BRINE, WEATHER)),
 )
 REFUSED = (
     (NoFraction, fractions.fraction, (1, 0)), (NoFraction, fractions.over, ((1, 2), (0, 1))),
@@ -57,6 +70,11 @@ REFUSED = (
     (NoMoment, needs.came, ASK + ((2, 1), (1, 1))), (NoMoment, needs.peak, ASK + ((2, 1), (1, 1))),
     (NoMoment, needs.best_begins, ASK + ((4, 1),)), (NoMoment, needs.least_shown, ASK + ((4, 1), ((0, 1), (0, 1)))),
     (NoStrength, needs.most_shown, ASK[:4] + ((1, 2), ((9, 1),) * 4)),
+    (NoMoment, years.part_after, OF_YEAR + ((4, 1),)), (NoStrength, years.brings, (FULL, AREA, YEAR, (1, 2))),
+    (NoYear, years.gone, OF_YEAR + ([1],)), (NoMoment, years.turned, (YEAR, (0, 1))),
+    (NoYear, clamps.many_times, (CLAMP, [1])), (NoRoom, brims.brimmed, (FULL, (AREA, (1, 1)), ONE_BRINE, WEATHER, (9, 1))),
+    (NoMoment, brims.brimmed, (FULL, PAN, ONE_BRINE, WEATHER, (9, 1))),
+    (NoRoom, brims.brim_spans, ((AREA, (1, 1)), ONE_BRINE, WEATHER)),
 )
 
 
