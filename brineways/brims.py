@@ -3,7 +3,7 @@
 from brineways.brines import water_of
 from brineways.clamps import clamped, one_behind
 from brineways.errors import NoRoom
-from brineways.fractions import NOUGHT, is_fraction, is_less, less, times
+from brineways.fractions import NOUGHT, is_less, is_positive, less, times
 from brineways.spells import brought, check_moment, spans_of, spells_between, through
 
 
@@ -12,9 +12,7 @@ def is_pan(thing):
     if not isinstance(thing, tuple) or len(thing) != 2:
         return False
     area, depth = thing
-    if not is_fraction(area) or not is_fraction(depth):
-        return False
-    return is_less(NOUGHT, area) and is_less(NOUGHT, depth)
+    return is_positive(area) and is_positive(depth)
 
 
 def rim_of(pan):

@@ -2,8 +2,13 @@
 
 from brineways.errors import NoBrine, NoFraction, NoStrength
 from brineways.fractions import (
-    NOUGHT, ONE, is_fraction, is_less, less, over, plus, rising, summed, times,
+    NOUGHT, ONE, is_fraction, is_less, is_positive, less, over, plus, rising, summed, times,
 )
+
+
+def is_strength(full, thing):
+    """Whether anything is a strength above 0 and at most full."""
+    return is_positive(thing) and not is_less(full, thing)
 
 
 def is_layer(full, thing):
@@ -18,6 +23,11 @@ def is_layer(full, thing):
     if water == NOUGHT:
         return salt != NOUGHT
     return not is_less(times(full, water), salt)
+
+
+def is_wet(full, water, salt):
+    """Whether two things are the water and the salt of a layer that has water."""
+    return is_layer(full, (water, salt)) and water != NOUGHT
 
 
 def is_beneath(one, other):
@@ -66,13 +76,18 @@ def joined(one, other):
     return gathered(one + other)
 
 
+def so_often(brine, many):
+    """A brine with each layer so many times, by a fraction from 0 on."""
+    if many == NOUGHT:
+        return ()
+    return tuple([(times(water, many), times(salt, many)) for water, salt in brine])
+
+
 def share_of(brine, part):
     """So much of each layer of a brine, by a fraction from 0 to 1."""
     if is_less(part, NOUGHT) or is_less(ONE, part):
         raise NoFraction("a share is from 0 to 1")
-    if part == NOUGHT:
-        return ()
-    return tuple([(times(water, part), times(salt, part)) for water, salt in brine])
+    return so_often(brine, part)
 
 
 def water_of(brine):
@@ -133,7 +148,7 @@ def needs_for(brine, some):
 
 def need(full, brine, strength):
     """How much water must go till none of a brine is weaker than a strength."""
-    if not is_less(NOUGHT, strength) or is_less(full, strength):
+    if not is_strength(full, strength):
         raise NoStrength("a strength is above 0 and at most full")
     return needs_for(brine, (strength,))[0]
 

@@ -77,6 +77,11 @@ def is_less(one, other):
     return a * d < c * b
 
 
+def is_positive(thing):
+    """Whether anything is a fraction above 0."""
+    return is_fraction(thing) and thing[0] > 0
+
+
 def least(some):
     """The least of a row of one fraction or more."""
     best = some[0]

@@ -1,19 +1,10 @@
 """Needs over time: what came, since when, the peak, and papers that show a need."""
 
 from brineways.brines import need
-from brineways.errors import NoMoment
 from brineways.fractions import NOUGHT, greatest, is_less, least, plus
 from brineways.spells import (
-    brought, check_moment, is_moment, spells_between, strong_spans, turns_of, worths_at_turns,
+    brought, check_moment, check_moments, is_moment, spells_between, strong_spans, turns_of, worths_at_turns,
 )
-
-
-def check_moments(weather, one, other):
-    """Refuses two fractions that are no moments, or of which the second is less."""
-    check_moment(weather, one)
-    check_moment(weather, other)
-    if is_less(other, one):
-        raise NoMoment("the second moment is no less than the first")
 
 
 def came_between(first, area, weather, begin, moment):

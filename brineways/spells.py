@@ -3,7 +3,7 @@
 from brineways.brines import need, water_of
 from brineways.errors import NoMoment, NoWater
 from brineways.fractions import (
-    NOUGHT, greatest, is_fraction, is_less, least, less, over, plus, summed, times,
+    NOUGHT, greatest, is_fraction, is_less, is_positive, least, less, over, plus, summed, times,
 )
 from brineways.sun import dried, rained
 
@@ -15,7 +15,7 @@ def is_spell(thing):
     if not isinstance(thing, tuple) or len(thing) != 2:
         return False
     days, net = thing
-    return is_fraction(days) and is_fraction(net) and is_less(NOUGHT, days)
+    return is_positive(days) and is_fraction(net)
 
 
 def is_weather(thing):
@@ -39,6 +39,14 @@ def check_moment(weather, moment):
     """Refuses a fraction that is no moment of a weather."""
     if not is_moment(weather, moment):
         raise NoMoment("a moment is from 0 to all days of the weather")
+
+
+def check_moments(weather, one, other):
+    """Refuses two fractions that are no moments, or of which the second is less."""
+    check_moment(weather, one)
+    check_moment(weather, other)
+    if is_less(other, one):
+        raise NoMoment("the second moment is no less than the first")
 
 
 def turns_of(weather):

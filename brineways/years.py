@@ -1,7 +1,7 @@
 """Years: weathers with inflows, what many of them leave, and when a brine settles."""
 
 from brineways.brines import (
-    dissolved_of, gathered, is_beneath, is_layer, joined, need, needs_for, salt_of, strengths, water_of,
+    dissolved_of, gathered, is_beneath, is_wet, joined, need, needs_for, salt_of, so_often, strengths, water_of,
 )
 from brineways.counts import check_many
 from brineways.errors import NoMoment
@@ -18,7 +18,7 @@ def is_inflow(full, thing):
     if not isinstance(thing, tuple) or len(thing) != 3:
         return False
     moment, water, salt = thing
-    return is_fraction(moment) and is_layer(full, (water, salt)) and water != NOUGHT
+    return is_fraction(moment) and is_wet(full, water, salt)
 
 
 def is_year(full, thing):
@@ -73,13 +73,6 @@ def brings_water(area, year):
     return plus(water_of(inflow_of(year)), brought(area, year[0]))
 
 
-def so_often(brine, many):
-    """A brine with each layer so many times."""
-    if many == 0:
-        return ()
-    return tuple([(times(water, (many, 1)), times(salt, (many, 1))) for water, salt in brine])
-
-
 def need_lines(brine, more):
     """A brine's needs, and so much more, as lines.
 
@@ -130,7 +123,7 @@ def brine_by_needs(full, lines, water, salt):
 
 def years_brought(area, year, many):
     """The inflows of so many years, and what their weather brings."""
-    return (so_often(inflow_of(year), many), times((many, 1), brought(area, year[0])))
+    return (so_often(inflow_of(year), (many, 1)), times((many, 1), brought(area, year[0])))
 
 
 def gone(full, area, brine, year, many):

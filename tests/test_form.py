@@ -21,6 +21,13 @@ INTERFACE = {
     "years": "is_year part_after year_after brings gone is_settled settles turned",
     "clamps": "clamped one_behind many_times first_time",
     "brims": "is_pan rim_of clamp_of brimmed brim_spans",
+    "works": "is_works is_stand is_deed done passed",
+    "keeper": "Keeper",
+    "ladders": "is_gates openings run_to",
+    "rooms": "room room_by does_hold",
+}
+METHODS = {
+    ("keeper", "Keeper"): "tell drop back stand_at account_at deeds",
 }
 BUILTINS = set(
     "len range enumerate zip min max sum abs sorted reversed int str bool bytes list tuple dict set frozenset"
@@ -106,6 +113,13 @@ class Interface(unittest.TestCase):
             tree = ast.parse((PACKAGE / f"{stem}.py").read_text(encoding="utf-8"))
             defined = {node.name for node in tree.body if isinstance(node, (ast.FunctionDef, ast.ClassDef))}
             self.assertEqual(set(names.split()) - defined, set())
+
+    def test_each_method_is_defined_in_its_class(self):
+        for (stem, name), methods in METHODS.items():
+            tree = ast.parse((PACKAGE / f"{stem}.py").read_text(encoding="utf-8"))
+            body = next(node.body for node in tree.body if isinstance(node, ast.ClassDef) and node.name == name)
+            defined = {node.name for node in body if isinstance(node, ast.FunctionDef)}
+            self.assertEqual(set(methods.split()) - defined, set())
 
 
 if __name__ == "__main__":

@@ -3,9 +3,9 @@
 import unittest
 from copy import deepcopy
 
-from brineways import brims, brines, clamps, draws, fractions, needs, spells, sun, years
+from brineways import brims, brines, clamps, draws, fractions, ladders, needs, rooms, spells, sun, works, years
 from brineways.errors import (
-    BrineError, NoBrine, NoFraction, NoMoment, NoRoom, NoStrength, NoWater, NoYear,
+    BrineError, NoBrine, NoDeed, NoFraction, NoGate, NoLot, NoMoment, NoPan, NoRoom, NoStrength, NoWater, NoYear, Weaker,
 )
 from support import layer
 
@@ -20,6 +20,10 @@ YEAR = (WEATHER, (((1, 1), (4, 1), (1, 1)), ((7, 2), (2, 1), (0, 1))))
 OF_YEAR = (FULL, AREA, ONE_BRINE, YEAR)
 CLAMP = ((3, 2), (0, 1), (10, 1))
 PAN = ((2, 1), (8, 1))
+WORKS = (FULL, (PAN, PAN), WEATHER)
+STAND = (ONE_BRINE, OTHER)
+GATES = ((1, 4),)
+OF_ROOM = (FULL, PAN, WEATHER[:1], (0, (4, 1), (1, 1)), (1, 4))
 
 CALLS = (
     (fractions.is_fraction, ((1, 2),)), (fractions.is_fraction, ([1, [2]],)), (fractions.fraction, (6, -4)),
@@ -53,6 +57,14 @@ CALLS = (
     (clamps.first_time, (CLAMP, (1, 1), (9, 1))), (brims.is_pan, (PAN,)), (brims.is_pan, ([[1, 1], [1, 1]],)),
     (brims.rim_of, (PAN,)), (brims.clamp_of, (PAN, WEATHER)), (brims.brimmed, (FULL, PAN, ONE_BRINE, WEATHER, (3, 1))),
     (brims.brim_spans, (PAN, ONE_BRINE, WEATHER)),
+    (works.is_works, (WORKS,)), (works.is_works, ([FULL, [PAN], [WEATHER]],)), (works.is_stand, (WORKS, STAND)),
+    (works.is_stand, (WORKS, [list(ONE_BRINE), list(OTHER)])), (works.is_deed, (WORKS, ("let", 0, (1, 1)))),
+    (works.is_deed, (WORKS, ["let", 0, [1, 1]])), (works.done, (WORKS, STAND, ("lead", 0, 1, (1, 1), "under", True))),
+    (works.done, (WORKS, STAND, ("pour", 0, (1, 1), (0, 1)))), (works.done, (WORKS, STAND, ("let", 0, (8, 1)))),
+    (works.done, (WORKS, STAND, ("rake", 0))), (works.done, (WORKS, STAND, ("stir", 0))),
+    (works.passed, (WORKS, STAND, (1, 2), (3, 1))), (ladders.is_gates, (WORKS, GATES)), (ladders.is_gates, (WORKS, [[1, 4]])),
+    (ladders.openings, (WORKS, GATES, (OTHER, ()), (7, 2))), (ladders.run_to, (WORKS, GATES, (OTHER, ()), (7, 2))),
+    (rooms.room, OF_ROOM), (rooms.room_by, OF_ROOM + (("rim", 0, 1),)), (rooms.does_hold, OF_ROOM + ((3, 2),)),
 )
 REFUSED = (
     (NoFraction, fractions.fraction, (1, 0)), (NoFraction, fractions.over, ((1, 2), (0, 1))),
@@ -75,6 +87,12 @@ REFUSED = (
     (NoYear, clamps.many_times, (CLAMP, [1])), (NoRoom, brims.brimmed, (FULL, (AREA, (1, 1)), ONE_BRINE, WEATHER, (9, 1))),
     (NoMoment, brims.brimmed, (FULL, PAN, ONE_BRINE, WEATHER, (9, 1))),
     (NoRoom, brims.brim_spans, ((AREA, (1, 1)), ONE_BRINE, WEATHER)),
+    (NoDeed, works.done, (WORKS, STAND, ["let", 0, [1, 1]])), (NoPan, works.done, (WORKS, STAND, ("rake", 2))),
+    (NoWater, works.done, (WORKS, STAND, ("let", 1, (99, 1)))), (NoRoom, works.done, (WORKS, STAND, ("pour", 0, (9, 1), (0, 1)))),
+    (Weaker, works.done, (WORKS, STAND, ("lead", 0, 1, (1, 1), "over", False))),
+    (NoMoment, works.passed, (WORKS, STAND, (3, 1), (1, 2))), (NoGate, ladders.openings, (WORKS, [[1, 4]], STAND, (9, 1))),
+    (NoMoment, ladders.run_to, (WORKS, GATES, STAND, (9, 1))), (NoLot, rooms.room, OF_ROOM[:3] + ([1], (9, 1))),
+    (NoStrength, rooms.does_hold, OF_ROOM[:4] + ((9, 1), (1, 1))),
 )
 
 
