@@ -25,9 +25,14 @@ INTERFACE = {
     "keeper": "Keeper",
     "ladders": "is_gates openings run_to",
     "rooms": "room room_by does_hold",
+    "fits": "best_fit fit_worth prices_bound",
+    "plans": "is_field lines_of best_plan plan_salt prices_salt",
+    "texts": "fraction_text brine_text read_fraction read_brine",
+    "desk": "Desk",
 }
 METHODS = {
     ("keeper", "Keeper"): "tell drop back stand_at account_at deeds",
+    ("desk", "Desk"): "say",
 }
 BUILTINS = set(
     "len range enumerate zip min max sum abs sorted reversed int str bool bytes list tuple dict set frozenset"

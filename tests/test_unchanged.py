@@ -3,9 +3,12 @@
 import unittest
 from copy import deepcopy
 
-from brineways import brims, brines, clamps, draws, fractions, ladders, needs, rooms, spells, sun, works, years
+from brineways import (
+    brims, brines, clamps, draws, fits, fractions, ladders, needs, plans, rooms, spells, sun, texts, works, years,
+)
 from brineways.errors import (
-    BrineError, NoBrine, NoDeed, NoFraction, NoGate, NoLot, NoMoment, NoPan, NoRoom, NoStrength, NoWater, NoYear, Weaker,
+    BrineError, NoBrine, NoDeed, NoFraction, NoGate, NoLot, NoMoment, NoPan, NoPlan, NoRoom, NoStrength, NoText, NoWater,
+    NoYear, Weaker,
 )
 from support import layer
 
@@ -23,6 +26,9 @@ PAN = ((2, 1), (8, 1))
 WORKS = (FULL, (PAN, PAN), WEATHER)
 STAND = (ONE_BRINE, OTHER)
 GATES = ((1, 4),)
+GAINS = ((3, 1), (2, 1))
+LINES = ((((1, 1), (1, 1)), (4, 1)), (((1, 1), (0, 1)), (3, 1)))
+FIELD = (FULL, (1, 4), (PAN,), WEATHER[:1], ((0, (4, 1), (1, 1)),))
 OF_ROOM = (FULL, PAN, WEATHER[:1], (0, (4, 1), (1, 1)), (1, 4))
 
 CALLS = (
@@ -65,6 +71,11 @@ CALLS = (
     (works.passed, (WORKS, STAND, (1, 2), (3, 1))), (ladders.is_gates, (WORKS, GATES)), (ladders.is_gates, (WORKS, [[1, 4]])),
     (ladders.openings, (WORKS, GATES, (OTHER, ()), (7, 2))), (ladders.run_to, (WORKS, GATES, (OTHER, ()), (7, 2))),
     (rooms.room, OF_ROOM), (rooms.room_by, OF_ROOM + (("rim", 0, 1),)), (rooms.does_hold, OF_ROOM + ((3, 2),)),
+    (fits.best_fit, (GAINS, LINES)), (fits.fit_worth, (GAINS, LINES, ((3, 1), (1, 1)))),
+    (fits.fit_worth, (GAINS, LINES, ((9, 1), (1, 1)))), (fits.prices_bound, (GAINS, LINES, ((2, 1), (1, 1)))),
+    (plans.is_field, (FIELD,)), (plans.is_field, (list(FIELD),)), (plans.lines_of, (FIELD,)), (plans.best_plan, (FIELD,)),
+    (plans.plan_salt, (FIELD, ((1, 2),))), (plans.prices_salt, (FIELD, ((9, 1),) * 5)), (texts.fraction_text, ((-1, 2),)),
+    (texts.brine_text, (ONE_BRINE,)), (texts.read_fraction, ("-1/2",)), (texts.read_brine, (FULL, "0:2 3:1 7:0")),
 )
 REFUSED = (
     (NoFraction, fractions.fraction, (1, 0)), (NoFraction, fractions.over, ((1, 2), (0, 1))),
@@ -92,7 +103,8 @@ REFUSED = (
     (Weaker, works.done, (WORKS, STAND, ("lead", 0, 1, (1, 1), "over", False))),
     (NoMoment, works.passed, (WORKS, STAND, (3, 1), (1, 2))), (NoGate, ladders.openings, (WORKS, [[1, 4]], STAND, (9, 1))),
     (NoMoment, ladders.run_to, (WORKS, GATES, STAND, (9, 1))), (NoLot, rooms.room, OF_ROOM[:3] + ([1], (9, 1))),
-    (NoStrength, rooms.does_hold, OF_ROOM[:4] + ((9, 1), (1, 1))),
+    (NoStrength, rooms.does_hold, OF_ROOM[:4] + ((9, 1), (1, 1))), (NoPlan, fits.best_fit, (GAINS, LINES[1:])),
+    (NoPlan, plans.best_plan, (list(FIELD),)), (NoText, texts.read_fraction, ("1/1",)), (NoText, texts.read_brine, (FULL, "3:1 3:1")),
 )
 
 
